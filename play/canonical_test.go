@@ -101,6 +101,8 @@ func TestCanonicalErrors(t *testing.T) {
 		"5 moves":                     {api.Play{Moves: []api.Move{stay, stay, stay, stay, stay}}, api.ErrMany},
 		"37 touches":                  {api.Play{Moves: []api.Move{safe(2, 3, "t", many...)}}, api.ErrMany},
 		"37 touches of one twice":     {api.Play{Moves: []api.Move{stay, stay, safe(2, 3, "t", many...)}}, api.ErrMany},
+		"25 pitches, a runner twice":  {api.Play{Pitches: strings.Repeat("F", 25), Moves: []api.Move{stay, stay}}, api.ErrMany},
+		"24 pitches, a runner twice":  {api.Play{Pitches: strings.Repeat("F", 24), Moves: []api.Move{stay, stay}}, api.ErrTwice},
 		"37 touches of one who stays": {api.Play{Moves: []api.Move{safe(1, 1, "t", many...)}}, api.ErrMany},
 		"a runner twice":              {api.Play{Pitches: "Q", Moves: []api.Move{safe(1, 2, "t"), stay}}, api.ErrTwice},
 		"a runner who is none twice":  {api.Play{Moves: []api.Move{safe(math.MinInt, 2, "t"), stay, safe(math.MinInt, 2, "t")}}, api.ErrTwice},
